@@ -1,0 +1,1 @@
+"""Edits as values: applied, composed, turned round and rebased."""
