@@ -1,1 +1,1 @@
-"""Edits as values: applied, composed, turned round and rebased."""
+"""Edits as values: applied, composed, turned round, rebased, and what they do to places and stretches."""

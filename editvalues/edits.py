@@ -11,6 +11,13 @@ SHAPES = (
     (3, False),
     (2, False),
     (5, False),
+    (2, False),
+    (2, False),
+    (4, False),
+    (1, False),
+    (3, True),
+    (4, False),
+    (0, False),
 )
 
 
@@ -49,4 +56,18 @@ def answer_of(held, call, numbers, row):
         return held.call_compose(numbers[0], numbers[1], numbers[2])
     if call == 5:
         return held.call_turn(numbers[0], numbers[1])
-    return held.call_rebase(numbers[0], numbers[1], numbers[2], numbers[3], numbers[4])
+    if call == 6:
+        return held.call_rebase(numbers[0], numbers[1], numbers[2], numbers[3], numbers[4])
+    if call == 7:
+        return held.call_same(numbers[0], numbers[1])
+    if call == 8:
+        return held.call_place(numbers[0], numbers[1])
+    if call == 9:
+        return held.call_stretch(numbers[0], numbers[1], numbers[2], numbers[3])
+    if call == 10:
+        return held.call_kept(numbers[0])
+    if call == 11:
+        return held.call_replace(numbers[0], numbers[1], numbers[2], row)
+    if call == 12:
+        return held.call_repaint(numbers[0], numbers[1], numbers[2], numbers[3])
+    return held.call_show()

@@ -1,13 +1,16 @@
 """The object that the calls are made on: a text and ten edits.
 
-Each call answers a list of numbers. A refusal is one number below 0: -1 a list that tells nothing of its kind,
--2 a number outside its range, -3 edits or a text that do not go together, -5 a length above the greatest.
+Each call answers a list of numbers. A refusal is one number below 0: -1 a list that tells nothing of its kind, or a
+place or a stretch that the text has not, -2 a number outside its range, -3 edits or a text that do not go together,
+-4 letters to replace a stretch by that are none, -5 a length above the greatest.
 Whatever may be refused is made first and kept afterwards, so that a refused call leaves everything as it was.
 """
 
 from editvalues.applied import applied
 from editvalues.composed import composed
-from editvalues.letters import letters_told, numbers_of_letters
+from editvalues.letters import is_look, letters_told, numbers_of_letters
+from editvalues.made import repainting, replacing
+from editvalues.places import backward, carried_stretch, count_kept, forward, kept_stretches
 from editvalues.rebased import rebased
 from editvalues.steps import MOST, in_form, new_length, old_length
 from editvalues.told import new_length_told, numbers_of_steps, old_length_told, parts_told, steps_of_parts
@@ -19,6 +22,11 @@ EDITS = 10
 def name_edits(names):
     """Whether each of the numbers names an edit held."""
     return all([0 <= name < EDITS for name in names])
+
+
+def is_stretch(p, q, length):
+    """Whether a text of that length has a stretch from p to q."""
+    return 0 <= p <= q <= length
 
 
 class Held:
@@ -63,7 +71,7 @@ class Held:
         if made is None:
             return [-3]
         self.text = made
-        return [len(made)] + numbers_of_letters(made)
+        return self.call_show()
 
     def call_compose(self, r, s, t):
         if not name_edits([r, s, t]):
@@ -87,3 +95,57 @@ class Held:
         if new_length(both[0]) > MOST or new_length(both[1]) > MOST:
             return [-5]
         return self.hold(t, both[0]) + self.hold(u, both[1])
+
+    def call_same(self, r, s):
+        if not name_edits([r, s]):
+            return [-2]
+        return [1 if self.edits[r] == self.edits[s] else 0]
+
+    def call_place(self, r, p):
+        if not name_edits([r]):
+            return [-2]
+        steps = self.edits[r]
+        if p < 0 or p > old_length(steps):
+            return [-1]
+        return [backward(steps, p), forward(steps, p)]
+
+    def call_stretch(self, r, p, q, grows):
+        if not name_edits([r]) or grows < 0 or grows > 3:
+            return [-2]
+        steps = self.edits[r]
+        if not is_stretch(p, q, old_length(steps)):
+            return [-1]
+        carried = carried_stretch(steps, p, q, grows in (1, 3), grows in (2, 3))
+        return [carried[0], carried[1], count_kept(steps, p, q)]
+
+    def call_kept(self, r):
+        if not name_edits([r]):
+            return [-2]
+        stretches = kept_stretches(self.edits[r])
+        answer = [len(stretches)]
+        for stretch in stretches:
+            answer.extend(stretch)
+        return answer
+
+    def call_replace(self, t, p, q, row):
+        if not name_edits([t]):
+            return [-2]
+        if not is_stretch(p, q, len(self.text)):
+            return [-1]
+        letters = letters_told(row)
+        if letters is None:
+            return [-4]
+        steps = replacing(self.text, p, q, letters)
+        if new_length(steps) > MOST:
+            return [-5]
+        return self.hold(t, steps)
+
+    def call_repaint(self, t, p, q, g):
+        if not name_edits([t]) or not is_look(g):
+            return [-2]
+        if not is_stretch(p, q, len(self.text)):
+            return [-1]
+        return self.hold(t, repainting(self.text, p, q, g))
+
+    def call_show(self):
+        return [len(self.text)] + numbers_of_letters(self.text)

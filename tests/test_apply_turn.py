@@ -55,6 +55,7 @@ class ApplyTest(CallCase):
             [], keeps(2), keeps(4), keeps(2) + puts(X), keeps(3) + drops(C), drops(A), puts(A, B, C),
             keeps(2) + painted(1, 5, 1), painted(1, 5, 1) + keeps(2),
             keeps(2) + drops((10, 3)), keeps(2) + drops((65, 2)), drops(B) + keeps(2), painted(0, 5, 2) + keeps(1),
+            keeps(2) + drops((10, 1)), drops((96, 0)) + keeps(2),
         ]
         for edit in wrong:
             self.assert_refused(apply(1), -3, before=[put_in(1, edit)])

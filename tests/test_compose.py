@@ -49,6 +49,9 @@ class ComposeTest(CallCase):
         self.assert_composed(painted(2, 3, 1), drops((97, 3)), drops((97, 2)), [1, 0])
         self.assert_apart(painted(2, 3, 1), drops((97, 2)))
         self.assert_apart(painted(2, 3, 1), drops((97, 4)))
+        # A sign that is the same number as a look is still none.
+        self.assert_apart(painted(2, 97, 1), drops((97, 4)))
+        self.assert_composed(painted(2, 97, 1), drops((97, 97)), drops((97, 2)), [1, 0])
 
     def test_put_and_keep(self):
         self.assert_composed(puts(X), keeps(1), puts(X), [0, 1])
@@ -58,11 +61,13 @@ class ComposeTest(CallCase):
         self.assert_apart(puts(X), painted(5, 9, 1))
         self.assert_apart(puts(X), painted(9, 4, 1))
         self.assert_apart(puts(X), painted(88, 4, 1))
+        self.assert_apart(puts(X), painted(3, 9, 1))
 
     def test_put_and_drop(self):
         self.assert_composed(puts(X), drops(X), [], [0, 0])
         self.assert_apart(puts(X), drops((88, 5)))
         self.assert_apart(puts(X), drops((89, 4)))
+        self.assert_apart(puts((88, 97)), drops((97, 4)))
 
     def test_one_row_at_its_end_before_the_other(self):
         for bringing in (keeps(1), painted(2, 3, 1), puts(X)):

@@ -30,11 +30,22 @@ WORDS = (
     "type typing typing_extensions enum Enum IntEnum StrEnum Flag IntFlag Generic Protocol ABC ABCMeta namedtuple"
     " NamedTuple TypedDict TYPE_CHECKING abstractmethod"
 ).split()
+# What the own methods and values of an object are not called like.
+PYTHONS_OWN = [name for kind in (str, int, list, tuple, dict, set, bytes) for name in dir(kind)]
 
 
 def trees():
     for path in sorted(PACKAGE.glob("*.py")):
         yield path, ast.parse(path.read_text(encoding="ascii"))
+
+
+def names_bound(node):
+    """The names that a statement at a file's top binds."""
+    if isinstance(node, ast.ImportFrom):
+        return [each.name for each in node.names]
+    if isinstance(node, ast.Assign):
+        return [node.targets[0].id]
+    return [node.name]
 
 
 class LanguageTest(unittest.TestCase):
@@ -93,6 +104,51 @@ class LanguageTest(unittest.TestCase):
                 named = getattr(node, "id", getattr(node, "arg", getattr(node, "attr", getattr(node, "name", "a"))))
                 if named != "__init__":
                     self.assertRegex(named, r"^[A-Za-z][A-Za-z0-9_]*$", place)
+
+    def test_the_top_of_a_module(self):
+        for path, tree in trees():
+            self.assertIsNotNone(ast.get_docstring(tree), path.name)
+            bound = []
+            for node in tree.body[1:]:
+                place = (path.name, node.lineno)
+                self.assertIsInstance(node, (ast.ImportFrom, ast.FunctionDef, ast.ClassDef, ast.Assign), place)
+                bound += names_bound(node)
+                if isinstance(node, ast.Assign):
+                    self.assertFalse(any(isinstance(each, ast.Call) for each in ast.walk(node)), place)
+            self.assertEqual(sorted(bound), sorted(set(bound)), path.name)
+
+    def test_no_local_is_called_like_an_import_or_a_class(self):
+        for path, tree in trees():
+            taken = [name for node in tree.body if isinstance(node, (ast.ImportFrom, ast.ClassDef))
+                     for name in names_bound(node)]
+            for node in ast.walk(tree):
+                place = (path.name, getattr(node, "lineno", 0))
+                if isinstance(node, ast.arg):
+                    self.assertNotIn(node.arg, taken, place)
+                if isinstance(node, ast.Name) and isinstance(node.ctx, ast.Store):
+                    self.assertNotIn(node.id, taken, place)
+
+    def test_classes(self):
+        methods = []
+        values = []
+        for path, tree in trees():
+            for node in ast.walk(tree):
+                if isinstance(node, ast.ClassDef):
+                    self.assertIn(node, tree.body, path.name)
+                    self.assertTrue(all(isinstance(each, ast.FunctionDef) for each in node.body), path.name)
+                    methods += [each.name for each in node.body if each.name != "__init__"]
+                if isinstance(node, ast.Attribute) and isinstance(node.ctx, ast.Store):
+                    values.append(node.attr)
+        self.assertEqual(sorted(methods), sorted(set(methods)))
+        for name in methods + values:
+            self.assertNotIn(name, PYTHONS_OWN)
+        self.assertFalse(set(methods) & set(values))
+
+    def test_is_stands_beside_none_alone(self):
+        for path, tree in trees():
+            for node in ast.walk(tree):
+                if isinstance(node, ast.Compare) and any(isinstance(op, (ast.Is, ast.IsNot)) for op in node.ops):
+                    self.assertIsNone(getattr(node.comparators[0], "value", node), (path.name, node.lineno))
 
     def test_methods(self):
         own = [n.name for path, tree in trees() for n in ast.walk(tree) if isinstance(n, ast.FunctionDef)]

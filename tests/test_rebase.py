@@ -88,6 +88,8 @@ class RebaseTest(CallCase):
         self.assert_either_way(painted(0, 3, 1), drops(A), [], drops((97, 3)), [0, 0, 1, 0])
         self.assert_apart(painted(3, 0, 1), drops(A))
         self.assert_apart(painted(2, 3, 1), drops(A))
+        self.assert_apart(painted(0, 3, 1), drops(B))
+        self.assert_apart(painted(0, 1, 1), drops(B))
 
     def test_drop_and_drop(self):
         self.assert_either_way(drops(A), drops(A), [], [], [0, 0, 0, 0])
